@@ -1,0 +1,1 @@
+"""Worthkinds: kinds of worths, counted."""
