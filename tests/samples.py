@@ -1,7 +1,9 @@
-"""Kinds and things that several tests hand in, and a plain listing of worths to compare with."""
+"""Kinds, rules and things that several tests hand in, and plain listings of worths to compare with."""
 
 import itertools
 import random
+
+from worthkinds.counting import how_many
 
 BIT = ("whole", 0, 1)
 PAIR = ("pick", (("ab", 3), ("c", 20)))
@@ -35,6 +37,37 @@ KINDS = [
 # 20 * 5 * 5 worths, and the same with one more: the empty tuple.
 OF_500 = ("row", (("whole", 1, 20), ("whole", -2, 2), ("whole", 0, 4)))
 OF_501 = ("many", OF_500, 0, 1)
+
+RISING = ("rising",)
+UNLIKE = ("unlike",)
+
+RULES = [
+    ("sum", -50, 50),
+    ("sum", 0, 0),
+    ("sum", 1, 3),
+    ("sum", -50, -1),
+    ("sum", 2, 1),
+    ("sum", 50, -50),
+    ("size", 1, 1),
+    ("size", 0, 2),
+    ("size", 2, 3),
+    ("size", -50, 0),
+    ("size", 3, 2),
+    ("word", "ab"),
+    ("word", "c"),
+    ("word", "zzz"),
+    RISING,
+    UNLIKE,
+    ("no", RISING),
+    ("no", ("size", 0, 1)),
+    ("no", ("no", UNLIKE)),
+    ("all", RISING, UNLIKE),
+    ("all", ("word", "ab"), ("no", ("word", "c"))),
+    ("all", ("sum", 0, 1), ("some", UNLIKE, ("size", 2, 2))),
+    ("some", ("sum", 1, 50), ("word", "c")),
+    ("some", ("no", UNLIKE), ("all", RISING, ("size", 1, 2))),
+    ("some", ("sum", 5, 4), ("size", 5, 4)),
+]
 
 
 def shown(thing):
@@ -81,6 +114,46 @@ def changed_at_each_place(thing, change):
     return found
 
 
+def changed_lists(thing):
+    """All that come of making one tuple in the thing, or the whole, a list."""
+    return changed_at_each_place(thing, lambda part: [list(part)] if isinstance(part, tuple) else [])
+
+
+def no_kinds():
+    return wrong_things() + [
+        (), 0, "whole", ("whole", 1, 0), ("whole", -20, 21), ("whole", False, True), list(BIT), ("pick", ()),
+        ("row", ()), ("row", (BIT,) * 4), ("row", (("whole", -20, 20),) * 4), ("many", BIT, 0, 4),
+        ("many", BIT, -1, 3), ("pick", (("a", 1), ("a", 1))), ("whole", 0), ("whole", 0, 1, 2), ("many", BIT, 0),
+        nested(BIT, 3, lambda thing: ("row", (thing,))), nested(PAIR, 3, lambda thing: ("many", thing, 0, 3)),
+    ]
+
+
+def deep_rules():
+    """Things some ten deep that look like rules at every level."""
+    wraps = [
+        lambda thing: ("no", thing),
+        lambda thing: ("all", thing, thing),
+        lambda thing: ("some", RISING, thing),
+        lambda thing: ["no", thing],
+    ]
+    return [nested(leaf, 10, wrap) for wrap in wraps for leaf in (RISING, True, None, "a", 1)]
+
+
+def no_rules():
+    """Things that are no rule, nor a part of one."""
+    plain = [thing for thing in wrong_things() if thing not in (21, -21)]
+    return plain + deep_rules() + [
+        51, -51, (), ("sum",), ("sum", 0), ("sum", 0, 1, 2), ("sum", 0, 51), ("sum", -51, 0), ("sum", False, True),
+        ("size", 0, None), ["rising"], ("rising", 0), ("unlike", ()), ("word", "abcd"), ("no",), ("no", "rising"),
+        ("all", RISING), ("some", RISING, UNLIKE, RISING), nested(RISING, 3, lambda thing: ("no", thing)), BIT,
+    ]
+
+
+def small_kinds():
+    """Kinds of all four sorts, each of at most 130 worths."""
+    return KINDS + [kind for kind in drawn_kinds(400) if how_many(kind) <= 130]
+
+
 def listed(kind):
     """All worths of the kind by their numbers, straight from the document's order."""
     if kind[0] == "whole":
@@ -113,3 +186,48 @@ def drawn_kinds(count):
     """The same kinds at each run: the source starts from a written seed."""
     source = random.Random(20)
     return [some_kind(source, 3) for _ in range(count)]
+
+
+def some_rule(source, depth):
+    sort = source.choice(["sum", "size", "word", "rising", "unlike"] + ["no", "all", "some"] * (2 if depth > 1 else 0))
+    if sort == "sum":
+        return ("sum", source.randint(-9, 5), source.randint(-5, 9))
+    if sort == "size":
+        return ("size", source.randint(-1, 3), source.randint(0, 4))
+    if sort == "word":
+        return ("word", source.choice(["a", "b", "ab", "ba", "abc", "zzz", "c"]))
+    if sort in ("rising", "unlike"):
+        return (sort,)
+    return (sort,) + tuple(some_rule(source, depth - 1) for _ in range(1 if sort == "no" else 2))
+
+
+def drawn_rules(count):
+    source = random.Random(21)
+    return [some_rule(source, 3) for _ in range(count)]
+
+
+def leaves(worth):
+    if isinstance(worth, tuple):
+        return [leaf for part in worth for leaf in leaves(part)]
+    return [worth]
+
+
+def numbers(worth):
+    return [leaf for leaf in leaves(worth) if isinstance(leaf, int)]
+
+
+def plainly_keeps(rule, worth):
+    """Whether the worth keeps the rule, straight from the document's words."""
+    sort = rule[0]
+    if sort == "sum":
+        return sum(numbers(worth)) in range(rule[1], rule[2] + 1)
+    if sort == "size":
+        return (len(worth) if isinstance(worth, tuple) else 1) in range(rule[1], rule[2] + 1)
+    if sort == "word":
+        return leaves(worth).count(rule[1]) > 0
+    if sort == "rising":
+        return numbers(worth) == sorted(numbers(worth))
+    if sort == "unlike":
+        return not isinstance(worth, tuple) or len(set(worth)) == len(worth)
+    kept = [plainly_keeps(part, worth) for part in rule[1:]]
+    return {"no": not kept[0], "all": all(kept), "some": any(kept)}[sort]

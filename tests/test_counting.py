@@ -1,10 +1,10 @@
 import copy
 import inspect
-import unittest
 
+from tests.cases import WorthCase
 from tests.samples import (
     BIT, FULL_PICK, KINDS, OF_500, OF_501, PAIR,
-    changed_at_each_place, deep_things, drawn_kinds, listed, nested, shown, wrong_things,
+    changed_at_each_place, deep_things, drawn_kinds, listed, no_kinds, shown, small_kinds, wrong_things,
 )
 from worthkinds.counting import all_worths, how_many, number_of, worth_of
 from worthkinds.errors import NoKind, NoWorth, TooMany
@@ -30,27 +30,14 @@ WRITTEN = [
     (("many", ("row", (BIT, BIT)), 0, 1), [(), ((0, 0),), ((0, 1),), ((1, 0),), ((1, 1),)]),
 ]
 
-ROW_4 = ("row", (BIT,) * 4)
-NO_KINDS = wrong_things() + [
-    (), 0, "whole", ("whole", 1, 0), ("whole", -20, 21), ("whole", False, True), list(BIT), ("pick", ()), ("row", ()),
-    ROW_4, ("row", (("whole", -20, 20),) * 4), ("many", BIT, 0, 4), ("many", BIT, -1, 3), ("pick", (("a", 1), ("a", 1))),
-    nested(BIT, 3, lambda thing: ("row", (thing,))), nested(PAIR, 3, lambda thing: ("many", thing, 0, 3)),
-]
+NO_KINDS = no_kinds()
 
 
-def small_kinds():
-    drawn = [kind for kind in drawn_kinds(400) if how_many(kind) <= 130]
-    return KINDS + [kind for kind, _ in WRITTEN] + drawn
+def counted_kinds():
+    return small_kinds() + [kind for kind, _ in WRITTEN]
 
 
-class CountingCase(unittest.TestCase):
-    def assert_same(self, told, expected):
-        """Equal, and truths in no place where whole numbers are due."""
-        self.assertEqual(told, expected)
-        self.assertEqual(repr(told), repr(expected))
-
-
-class HowManyTest(CountingCase):
+class HowManyTest(WorthCase):
     def test_interface(self):
         for function, arguments in ((how_many, 1), (worth_of, 2), (number_of, 2), (all_worths, 1)):
             self.assertEqual(len(inspect.signature(function).parameters), arguments)
@@ -61,7 +48,7 @@ class HowManyTest(CountingCase):
                 self.assert_same(how_many(kind), len(worths))
 
     def test_as_many_as_are_listed(self):
-        for kind in small_kinds() + [OF_500, OF_501]:
+        for kind in counted_kinds() + [OF_500, OF_501]:
             with self.subTest(kind=kind):
                 self.assert_same(how_many(kind), len(listed(kind)))
 
@@ -82,7 +69,7 @@ class HowManyTest(CountingCase):
                 self.assertRaises(NoKind, how_many, thing)
 
 
-class WorthOfTest(CountingCase):
+class WorthOfTest(WorthCase):
     def test_written(self):
         for kind, worths in WRITTEN:
             for number, worth in enumerate(worths):
@@ -90,12 +77,12 @@ class WorthOfTest(CountingCase):
                     self.assert_same(worth_of(kind, number), worth)
 
     def test_as_listed(self):
-        for kind in small_kinds():
+        for kind in counted_kinds():
             with self.subTest(kind=kind):
                 self.assert_same([worth_of(kind, number) for number in range(how_many(kind))], listed(kind))
 
     def test_numbers_without_a_worth(self):
-        for kind in small_kinds():
+        for kind in counted_kinds():
             count = len(listed(kind))
             self.assert_same(worth_of(kind, 0), listed(kind)[0])
             self.assert_same(worth_of(kind, count - 1), listed(kind)[-1])
@@ -116,7 +103,7 @@ class WorthOfTest(CountingCase):
                     self.assertRaises(NoKind, worth_of, thing, number)
 
 
-class NumberOfTest(CountingCase):
+class NumberOfTest(WorthCase):
     def test_written(self):
         for kind, worths in WRITTEN:
             for number, worth in enumerate(worths):
@@ -124,7 +111,7 @@ class NumberOfTest(CountingCase):
                     self.assert_same(number_of(kind, worth), number)
 
     def test_as_listed(self):
-        for kind in small_kinds():
+        for kind in counted_kinds():
             with self.subTest(kind=kind):
                 worths = listed(kind)
                 self.assert_same([number_of(kind, worth) for worth in worths], list(range(len(worths))))
@@ -168,7 +155,7 @@ class NumberOfTest(CountingCase):
             self.assertEqual(thing, before)
 
 
-class AllWorthsTest(CountingCase):
+class AllWorthsTest(WorthCase):
     def test_written(self):
         for kind, worths in WRITTEN:
             with self.subTest(kind=kind):
@@ -209,9 +196,9 @@ class AllWorthsTest(CountingCase):
                 self.assert_same(all_worths(kind), listed(kind))
 
 
-class TogetherTest(CountingCase):
+class TogetherTest(WorthCase):
     def test_numbers_lead_from_each_worth_to_itself(self):
-        for kind in small_kinds():
+        for kind in counted_kinds():
             with self.subTest(kind=kind):
                 worths = all_worths(kind)
                 self.assertEqual(len(worths), how_many(kind))

@@ -33,6 +33,14 @@ BARRED_NAMES = set("""
 
 DUNDERS = {"__init__", "__eq__", "__repr__", "__str__", "__len__"}
 
+KEYWORDS = {
+    "sorted": {"key", "reverse"}, "min": {"key", "default"}, "max": {"key", "default"}, "sum": {"start"},
+    "enumerate": {"start"}, "zip": {"strict"},
+}
+
+WALKED = {"zip", "enumerate", "reversed", "range"}
+WALKERS = {"list", "tuple", "dict", "sorted", "sum", "any", "all", "enumerate", "zip", "min", "max"}
+
 ALLOWED_NODES = tuple(getattr(ast, name) for name in """
     Module Import ImportFrom alias FunctionDef arguments arg Lambda ClassDef Assign AugAssign If While For Return Break
     Continue Pass Raise Try ExceptHandler Expr Constant List Tuple Dict Set BinOp UnaryOp BoolOp Compare IfExp Call
@@ -55,6 +63,10 @@ def nodes(*kinds):
 
 def is_docstring(tree, node):
     return bool(tree.body) and node is tree.body[0] and isinstance(node.value, ast.Constant)
+
+
+def called(node):
+    return node.func.id if isinstance(node.func, ast.Name) else getattr(node.func, "attr", None)
 
 
 class LanguageTest(unittest.TestCase):
@@ -179,3 +191,37 @@ class LanguageTest(unittest.TestCase):
         for path, node in nodes(ast.Call):
             if isinstance(node.func, ast.Attribute):
                 self.assertIn(node.func.attr, OWN_METHODS | own, f"L25 {path.name}")
+
+    def test_keywords(self):
+        for path, node in nodes(ast.Call):
+            if isinstance(node.func, ast.Name) and node.func.id in OWN_NAMES:
+                given = {keyword.arg for keyword in node.keywords}
+                self.assertLessEqual(given, KEYWORDS.get(node.func.id, set()), f"L22 {path.name}:{node.lineno}")
+
+    def test_walked_at_once(self):
+        for path, tree in trees():
+            at_once = [node.iter for node in ast.walk(tree) if isinstance(node, (ast.For, ast.comprehension))]
+            for node in ast.walk(tree):
+                if isinstance(node, ast.Call) and called(node) in WALKERS:
+                    at_once.extend(node.args)
+                if isinstance(node, ast.Call) and called(node) == "join" and isinstance(node.func.value, ast.Constant):
+                    at_once.extend(node.args)
+            for node in ast.walk(tree):
+                if isinstance(node, ast.Call) and called(node) in WALKED | {"items", "keys", "values"}:
+                    self.assertIn(node, at_once, f"L23 {path.name}:{node.lineno}")
+
+    def test_own_functions_are_called_not_kept(self):
+        for path, tree in trees():
+            fit = [node.func for node in ast.walk(tree) if isinstance(node, ast.Call)]
+            for node in ast.walk(tree):
+                if isinstance(node, ast.Call) and called(node) == "isinstance":
+                    fit.extend(ast.walk(node.args[1]))
+                if isinstance(node, ast.keyword) and node.arg == "key":
+                    fit.append(node.value)
+                if isinstance(node, ast.ClassDef):
+                    fit.extend(node.bases)
+                if isinstance(node, ast.ExceptHandler):
+                    fit.append(node.type)
+            for node in ast.walk(tree):
+                if isinstance(node, ast.Name) and node.id in OWN_NAMES:
+                    self.assertIn(node, fit, f"L22 {path.name}:{node.lineno}")
