@@ -119,6 +119,18 @@ def changed_lists(thing):
     return changed_at_each_place(thing, lambda part: [list(part)] if isinstance(part, tuple) else [])
 
 
+def changed_signs(text, signs):
+    """All that come of a sign left out, put in, or put in the place of another one, and of two signs exchanged."""
+    found = []
+    for place in range(len(text) + 1):
+        ahead, behind = text[:place], text[place:]
+        found.extend(ahead + sign + behind for sign in signs)
+        found.extend(ahead + sign + behind[1:] for sign in signs if behind)
+        found.append(ahead + behind[1:])
+        found.append(ahead + behind[1:2] + behind[:1] + behind[2:])
+    return found
+
+
 def no_kinds():
     return wrong_things() + [
         (), 0, "whole", ("whole", 1, 0), ("whole", -20, 21), ("whole", False, True), list(BIT), ("pick", ()),

@@ -158,6 +158,33 @@ class LanguageTest(unittest.TestCase):
             for part in node.body:
                 self.assertIsInstance(part, (ast.FunctionDef, ast.Pass), "L5")
 
+    def test_methods_and_values_of_objects(self):
+        methods = set()
+        for path, node in nodes(ast.ClassDef):
+            names = [part.name for part in node.body if isinstance(part, ast.FunctionDef)]
+            self.assertEqual(len(names), len(set(names)), f"L18 {path.name}")
+            methods |= set(names)
+        values = {node.attr for path, node in nodes(ast.Attribute) if isinstance(node.ctx, ast.Store)}
+        taken = {name for kind in (str, int, list, dict, set, bytes) for name in dir(kind)}
+        self.assertEqual(values & methods, set(), "L18")
+        self.assertEqual(values & taken, set(), "L26")
+        self.assertLessEqual(methods & taken, DUNDERS | OWN_METHODS | {"add", "discard"}, "L26")
+        for path, node in nodes(ast.FunctionDef):
+            if node.name == "__init__":
+                self.assertFalse([part for part in ast.walk(node) if isinstance(part, ast.Return)], f"L28 {path.name}")
+
+    def test_errors_of_python_are_taken_in_a_try_of_its_own(self):
+        for path, node in nodes(ast.Try):
+            where = f"L19 {path.name}:{node.lineno}"
+            taken = {part.id for handler in node.handlers for part in ast.walk(handler.type)
+                     if isinstance(part, ast.Name)}
+            self.assertNotIn("Exception", taken, where)
+            self.assertNotIn("TypeError", taken, where)
+            if taken & {"ValueError", "LookupError", "IndexError"}:
+                self.assertEqual(len(node.body), 1, where)
+                calls = [called(part) for part in ast.walk(node.body[0]) if isinstance(part, ast.Call)]
+                self.assertLessEqual(set(calls), {"int", "str", "index", "remove"}, where)
+
     def test_names(self):
         own = set(dir(builtins))
         for path, node in nodes(ast.Name, ast.arg, ast.FunctionDef, ast.ClassDef):
