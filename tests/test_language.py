@@ -229,7 +229,9 @@ class LanguageTest(unittest.TestCase):
         for path, tree in trees():
             at_once = [node.iter for node in ast.walk(tree) if isinstance(node, (ast.For, ast.comprehension))]
             for node in ast.walk(tree):
-                if isinstance(node, ast.Call) and called(node) in WALKERS:
+                if isinstance(node, ast.Call) and called(node) in WALKERS - {"min", "max"}:
+                    at_once.extend(node.args[:1])
+                if isinstance(node, ast.Call) and called(node) in {"min", "max"} and not node.keywords:
                     at_once.extend(node.args)
                 if isinstance(node, ast.Call) and called(node) == "join" and isinstance(node.func.value, ast.Constant):
                     at_once.extend(node.args)

@@ -3,7 +3,7 @@
 from worthkinds.counting import all_worths
 from worthkinds.errors import NoRule
 from worthkinds.kinds import is_whole, is_word
-from worthkinds.shares import share_within, together
+from worthkinds.shares import shares_together
 
 DEEPEST_RULE = 3
 FARTHEST_BOUND = 50
@@ -24,12 +24,23 @@ def keepers(kind, rule):
 
 
 def share_keeping(kind, rule):
-    return together([share_within(kind, worth) for worth in keepers(kind, rule)])
+    return shares_together(kind, keepers(kind, rule))
 
 
 def need_rule(rule):
     if not is_rule(rule):
         raise NoRule("this is no rule")
+
+
+def need_rules(rules):
+    if not isinstance(rules, (list, tuple)):
+        raise NoRule("these are no rules")
+    for rule in rules:
+        need_rule(rule)
+
+
+def counts_keeping(worths, rules):
+    return [len([worth for worth in worths if is_kept(rule, worth)]) for rule in rules]
 
 
 def is_rule_within(thing, levels):

@@ -42,6 +42,10 @@ def together(fractions):
     return total
 
 
+def shares_together(kind, worths):
+    return together([share_within(kind, worth) for worth in worths])
+
+
 def share_within(kind, worth):
     if kind[0] == "whole":
         return (1, count_of(kind))
